@@ -1,0 +1,1 @@
+"""Movegroups: groups told by moves, by words, by tables."""
