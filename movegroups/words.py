@@ -72,10 +72,9 @@ def rounded(word):
     """WORD freed, and freed where its end meets its front, too."""
     check_word(word, MOST_LETTERS)
     word = _free(word)
-    cut = 0
-    while len(word) - 2 * cut > 1 and word[cut] == -word[-1 - cut]:
-        cut += 1
-    return word[cut:len(word) - cut]
+    while word and word[0] == -word[-1]:
+        word = word[1:-1]
+    return word
 
 
 def is_less(one, other):

@@ -27,6 +27,10 @@ INTERFACE = {
     "bounds": "MOST",
     "moves": "is_move rest then undo raised turns rounds sign show_move read_move",
     "words": "freed linked backed many_times rounded is_less show_word read_word",
+    "rules": "Rules led broken",
+    "cosets": "Cosets",
+    "leasts": "leasts pairs led_down",
+    "tables": "Table fault",
 }
 
 
