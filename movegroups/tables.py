@@ -24,6 +24,12 @@ class Table:
         return f"Table({len(self.lines)})"
 
 
+def check_table(thing):
+    """Refuse what is no Table."""
+    if not isinstance(thing, Table):
+        raise NoTable(None)
+
+
 def fault(lines):
     """Why LINES, of any kind, are no table of a group; None where they are."""
     if not _has_form(lines):

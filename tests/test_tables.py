@@ -5,20 +5,9 @@ import unittest
 from movegroups.errors import NoTable
 from movegroups.tables import Table, fault
 
-from tests.groups import least_words_by_hand
 from tests.kit import NUMBERS, ODD, TEXTS, Loud, by_place_and_name, just, refused
+from tests.lines import cyclic, lines_of
 from tests.test_leasts import DOINGS
-
-
-def cyclic(many):
-    return tuple(tuple((one + other) % many for other in range(many)) for one in range(many))
-
-
-def lines_of(doing):
-    """The lines of the group that the moves make, by their ranks."""
-    members = sorted(least_words_by_hand(doing))
-    number = {move: place for place, move in enumerate(members)}
-    return tuple(tuple(number[tuple(other[image] for image in one)] for other in members) for one in members)
 
 
 def by_hand(lines):
