@@ -3,7 +3,7 @@
 from math import lcm
 
 from movegroups.bounds import MOST_POINTS
-from movegroups.errors import NoMove, NoNumber, NoPoints, NoText
+from movegroups.errors import NoMove, NoMoves, NoNumber, NoPoints, NoText
 from movegroups.wholes import is_between, is_whole
 
 
@@ -29,6 +29,15 @@ def check_points(points):
         raise NoNumber("no number of points")
 
 
+def check_moves(thing, points):
+    """Refuse what is no tuple of moves of POINTS."""
+    if not isinstance(thing, tuple):
+        raise NoMoves(None)
+    for place, move in enumerate(thing):
+        if not is_move(move) or len(move) != points:
+            raise NoMoves(place)
+
+
 def rest(points):
     """The move that leaves all points."""
     check_points(points)
@@ -41,16 +50,13 @@ def then(one, other):
     check_move(other)
     if len(one) != len(other):
         raise NoPoints("moves of unlike many points")
-    return tuple([other[image] for image in one])
+    return linked_moves(one, other)
 
 
 def undo(one):
     """The move that leads each image back."""
     check_move(one)
-    points = [0] * len(one)
-    for point, image in enumerate(one):
-        points[image] = point
-    return tuple(points)
+    return undone_move(one)
 
 
 def raised(one, times):
@@ -99,6 +105,19 @@ def read_move(text, points):
     if move is None or show_move(move) != text:
         raise NoText(0)
     return move
+
+
+def linked_moves(one, other):
+    """As then, of moves that need no look."""
+    return tuple([other[image] for image in one])
+
+
+def undone_move(one):
+    """As undo, of a move that needs no look."""
+    points = [0] * len(one)
+    for point, image in enumerate(one):
+        points[image] = point
+    return tuple(points)
 
 
 def _all_rounds(one):

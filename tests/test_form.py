@@ -31,6 +31,15 @@ INTERFACE = {
     "cosets": "Cosets",
     "leasts": "leasts pairs led_down",
     "tables": "Table fault",
+    "members": "times back power order_of commutator conjugate orders classes centralizer normalizer centre",
+    "subs": "generated leading cosets is_normal subs kinds_of_subs normal_subs",
+    "series": "derived derived_series lower_series",
+    "quotients": "sub_table quotient product",
+    "maps": "is_hom kernel image homs autos",
+    "likeness": "counts likeness",
+    "recipes": "made_by slimmed",
+    "chains": "Moves",
+    "extensions": "extension",
 }
 
 
