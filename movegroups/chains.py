@@ -4,6 +4,7 @@ from movegroups.bounds import MOST_MOVES
 from movegroups.errors import NoImages, NoMember, NoMoves, NoNumber, NoPoint, NoPoints
 from movegroups.levels import Levels
 from movegroups.moves import check_move, check_moves, check_points, linked_moves
+from movegroups.reach import reach
 from movegroups.recipes import slimmed
 from movegroups.wholes import is_between
 
@@ -34,17 +35,7 @@ class Moves:
             raise NoPoint("none of the points")
         if not is_between(fixed, 0, self.points):
             raise NoNumber("no number of points")
-        # No point is left to be moved where all are left.
-        makers = self._all.levels[fixed].makers if fixed < self.points else []
-        met = {point: True}
-        further = [point]
-        while further:
-            image = further.pop()
-            for move, _ in makers:
-                if move[image] not in met:
-                    met[move[image]] = True
-                    further.append(move[image])
-        return tuple(sorted(list(met)))
+        return reach(point, self._all.makers_behind(fixed))
 
     def least(self, images):
         """The least member that begins with IMAGES; None where none does."""
@@ -56,16 +47,11 @@ class Moves:
             if ahead not in level.leads:
                 return None
             made = linked_moves(level.leads[ahead].move, made)
-        return self._least_behind(made, len(images))
+        return self._all.least_behind(made, len(images))
 
     def strong(self):
         """For each point, and each other image of it with all below left, the least member that leads there."""
-        found = []
-        for level in self._all.levels:
-            for image in level.leads:
-                if image != level.point:
-                    found.append(self._least_behind(level.leads[image].move, level.point + 1))
-        return tuple(sorted(found))
+        return self._all.strong()
 
     def stops(self, move):
         """The least point up to which no member is as MOVE; None of a member."""
@@ -111,14 +97,6 @@ class Moves:
 
     def __repr__(self):
         return f"Moves({self.points} points, {self.order()} members)"
-
-    def _least_behind(self, made, first):
-        """The least move that a member which leaves all points below FIRST, and then MADE, make."""
-        for level in self._all.levels[first:]:
-            # The member's images of the level's point, then led on: the least of them settles its lead.
-            ahead = made.index(min([made[image] for image in level.leads]))
-            made = linked_moves(level.leads[ahead].move, made)
-        return made
 
     def _are_images(self, thing):
         if not isinstance(thing, tuple) or not all([is_between(image, 0, self.points - 1) for image in thing]):

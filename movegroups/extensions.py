@@ -20,12 +20,20 @@ def extension(table, auto, member, prime):
     many = len(auto) * prime
     if many > MOST_ORDER:
         raise TooGreat(many, MOST_ORDER)
-    led = _led_by(auto, prime)
-    undo = table.lines[member].index(0)
-    if auto[member] != member or led[prime] != [conjugated(table.lines, one, undo) for one in range(len(auto))]:
+    lines = extended(table.lines, auto, member, prime)
+    if lines is None:
         raise NoExtension("no extension by this map and member")
+    return Table(lines)
+
+
+def extended(lines, auto, member, prime):
+    """The lines of extension, of what needs no look; None where there is none."""
+    led = _led_by(auto, prime)
+    undo = lines[member].index(0)
+    if auto[member] != member or led[prime] != [conjugated(lines, one, undo) for one in range(len(auto))]:
+        return None
     pairs = [(one, times) for times in range(prime) for one in range(len(auto))]
-    return Table(tuple([tuple([_made(table.lines, led, member, one, other) for other in pairs]) for one in pairs]))
+    return tuple([tuple([_made(lines, led, member, one, other) for other in pairs]) for one in pairs])
 
 
 def _led_by(auto, prime):

@@ -1,6 +1,7 @@
 """The levels of a group of moves: for each point the members that leave all points below it."""
 
 from movegroups.moves import linked_moves, undone_move
+from movegroups.recipes import slimmed_to
 
 
 class Lead:
@@ -32,9 +33,25 @@ class Levels:
         self.steps = [("rest",)]
         stay = Lead(self.rest, 0, self.rest, 0)
         self.levels = [Level(point, stay) for point in range(points)]
-        for place, move in enumerate(moves):
-            self.steps.append(("move", place))
-            self._take_in(0, move, [len(self.steps) - 1])
+        self._many = 0
+        for move in moves:
+            self.make_by(move)
+
+    def make_by(self, move):
+        """Let the group be made by MOVE, too, the next one of MOVES; tell whether it was no member before."""
+        self.steps.append(("move", self._many))
+        self._many += 1
+        return self._take_in(0, move, [len(self.steps) - 1])
+
+    def has(self, move):
+        """Whether MOVE is a member."""
+        left, _ = self.sifted(move)
+        return left == self.rest
+
+    def makers_behind(self, first):
+        """Moves by which all members are made that leave all points below FIRST."""
+        # No point is left to be moved where all are left.
+        return [move for move, _ in self.levels[first].makers] if first < len(self.levels) else []
 
     def order(self, first=0):
         """How many members leave all points below FIRST."""
@@ -60,17 +77,46 @@ class Levels:
                 move = self.rest[:level.point] + tuple([lead.undone[each] for each in move[level.point:]])
         return move, leads
 
+    def least_behind(self, made, first):
+        """The least move that a member which leaves all points below FIRST, and then MADE, make."""
+        for level in self.levels[first:]:
+            # The member's images of the level's point, then led on: the least of them settles its lead.
+            ahead = made.index(min([made[image] for image in level.leads]))
+            made = linked_moves(level.leads[ahead].move, made)
+        return made
+
+    def strong(self):
+        """For each point, and each other image of it with all below left, the least member that leads there; rising."""
+        found = []
+        for level in self.levels:
+            for image in level.leads:
+                if image != level.point:
+                    found.append(self.least_behind(level.leads[image].move, level.point + 1))
+        return tuple(sorted(found))
+
     def recipe(self, leads):
         """A recipe of what LEADS make, the last one first."""
         steps = list(self.steps)
         last = _linked_steps(steps, [lead.step for lead in leads[::-1]])
         return tuple(steps[:last + 1])
 
+    def shown(self):
+        """A recipe of all leads, and for each level each image, rising, with the step that makes its lead."""
+        places = [level.leads[image].step for level in self.levels for image in level.leads]
+        recipe, put = slimmed_to(self.steps, places)
+        rows = []
+        for level in self.levels:
+            rows.append(tuple([(image, put[level.leads[image].step]) for image in sorted(list(level.leads))]))
+        return recipe, tuple(rows)
+
     def _take_in(self, first, move, steps):
-        """Let the level FIRST be made by MOVE, too, which STEPS make, and let the levels behind it go along."""
+        """Let the level FIRST be made by MOVE, too, which STEPS make, and let the levels behind it go along.
+
+        Told is whether MOVE wasn't made there before.
+        """
         move, leads = self.sifted(move, first)
         if move == self.rest:
-            return
+            return False
         maker = (move, _linked_steps(self.steps, steps + [lead.undone_step for lead in leads]))
         level = self.levels[first]
         level.makers.append(maker)
@@ -83,6 +129,7 @@ class Levels:
             if met is not None:
                 tries.extend([(met, each) for each in level.makers])
             place += 1
+        return True
 
     def _try(self, level, lead, maker):
         """The image that is met by LEAD and MAKER, if it is new; else what both leave goes on to the next level."""

@@ -24,8 +24,14 @@ def likeness(one, other):
     for word, first, second in zip(WORDS, counts(one), counts(other)):
         if first != second:
             return ("count", word, first, second)
+    images = least_map(one, other)
+    return ("search",) if images is None else ("map", images)
+
+
+def least_map(one, other):
+    """The least map both ways from ONE to OTHER, whose counts are alike; None where there is none."""
     ways = Ways(one, other, _of_one_order(one, other), True).told(True)
-    return ("map", tuple(ways[0])) if ways else ("search",)
+    return tuple(ways[0]) if ways else None
 
 
 def _of_one_order(one, other):

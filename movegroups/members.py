@@ -2,7 +2,7 @@
 
 from movegroups.errors import NoMember, NoNumber, NoPart, NoSub
 from movegroups.tables import check_table
-from movegroups.wholes import is_between, is_whole
+from movegroups.wholes import is_between, is_rising, is_whole
 
 
 def check_member(table, thing):
@@ -137,9 +137,7 @@ def _is_member(table, thing):
 
 
 def _is_part(table, thing):
-    if not isinstance(thing, tuple) or not all([_is_member(table, one) for one in thing]):
-        return False
-    return all([one < other for one, other in zip(thing, thing[1:])])
+    return is_rising(thing, len(table.lines))
 
 
 def _order(lines, one):

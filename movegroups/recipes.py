@@ -31,8 +31,15 @@ def slimmed(recipe):
     _check_recipe(recipe, None)
     if not recipe:
         raise NoRecipe(None)
+    kept, _ = slimmed_to(recipe, [len(recipe) - 1])
+    return kept
+
+
+def slimmed_to(recipe, places):
+    """RECIPE without all steps that those at PLACES don't come to, and the new place of each that is kept."""
     wanted = [False] * len(recipe)
-    wanted[-1] = True
+    for place in places:
+        wanted[place] = True
     for place in reversed(range(len(recipe))):
         if wanted[place]:
             for ahead in _steps_ahead(recipe[place]):
@@ -44,7 +51,7 @@ def slimmed(recipe):
             put[place] = len(kept)
             ahead = [put[number] for number in _steps_ahead(step)]
             kept.append((step[0], *ahead) if ahead else step)
-    return tuple(kept)
+    return tuple(kept), put
 
 
 def _steps_ahead(step):

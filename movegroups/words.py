@@ -20,15 +20,19 @@ def check_word(thing, many):
         raise NoWord("no word by these letters")
 
 
+def are_letters(thing):
+    """Whether THING, of any kind, is a tuple of one to six unlike small letters."""
+    if not isinstance(thing, tuple) or not 1 <= len(thing) <= MOST_LETTERS:
+        return False
+    if not all([isinstance(letter, str) and len(letter) == 1 and letter in SMALL for letter in thing]):
+        return False
+    return len(set(thing)) == len(thing)
+
+
 def check_letters(thing):
     """Refuse what is no tuple of one to six unlike small letters."""
-    if not isinstance(thing, tuple) or not 1 <= len(thing) <= MOST_LETTERS:
-        raise NoLetters("no tuple of one to six letters")
-    for letter in thing:
-        if not (isinstance(letter, str) and len(letter) == 1 and letter in SMALL):
-            raise NoLetters("no small letter")
-    if len(set(thing)) < len(thing):
-        raise NoLetters("a letter is there twice")
+    if not are_letters(thing):
+        raise NoLetters("no tuple of one to six unlike small letters")
 
 
 def place_of(letter):

@@ -40,6 +40,10 @@ INTERFACE = {
     "recipes": "made_by slimmed",
     "chains": "Moves",
     "extensions": "extension",
+    "turning": "table_of moves_of table_of_rules rules_of doing_of",
+    "lists": "groups_of named",
+    "language": "show_group read_group group_of",
+    "library": "Library",
 }
 
 
