@@ -40,10 +40,15 @@ INTERFACE = {
     "recipes": "made_by slimmed",
     "chains": "Moves",
     "extensions": "extension",
+    "blocks": "orbits blocks stabilizer renamed united is_part closure",
     "turning": "table_of moves_of table_of_rules rules_of doing_of",
     "lists": "groups_of named",
+    "doings": "doing_on core stayed orbits_of holders",
     "language": "show_group read_group group_of",
     "library": "Library",
+    "judge": "holds",
+    "papers": "paper_member paper_order paper_index paper_words paper_likeness paper_subs paper_list",
+    "desk": "Desk",
 }
 
 
